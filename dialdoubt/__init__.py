@@ -1,0 +1,1 @@
+"""Dialdoubt: which ticks of a clock have one picture."""
