@@ -1,5 +1,6 @@
 """Readings: the ways to take the hands of one tick for those of another."""
 
+from dialdoubt.errors import Coarse
 from dialdoubt.rests import weights_of
 
 
@@ -27,10 +28,15 @@ def swaps_of(hands):
 
 def rows_of(clock, reading):
     """The rows (a, b, c) of a reading."""
+    return rows_between(clock, clock[1], reading)
+
+
+def rows_between(clock, seen, reading):
+    """The rows of a reading by which the clock's hands are taken for those that are seen."""
     many, hands, blank, mirror = clock
     swap, mirrored = reading
     sign = -1 if mirrored else 1
-    rows = [row_of(many, hands[hand], hands[taken], sign) for hand, taken in enumerate(swap)]
+    rows = [row_of(many, hand, hands[taken], sign) for hand, taken in zip(seen, swap)]
     if not blank:
         return rows
     # How a blank dial is turned is unknown but the same for all hands: it goes away in the differences.
@@ -64,3 +70,10 @@ def coarse_step(clock):
     # Of no rows the greatest divisor is many itself, as the point on coarse clocks wants it.
     greatest, weights = weights_of(many, [a for a, b, c in rows_of(clock, plain)])
     return many // greatest
+
+
+def need_fine(clock):
+    """Refuses a coarse clock."""
+    step = coarse_step(clock)
+    if step < clock[0]:
+        raise Coarse(step)

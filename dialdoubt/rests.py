@@ -49,6 +49,31 @@ def weights_of(many, numbers):
     return greatest, weights
 
 
+def weighed_sum(many, weights, numbers):
+    """The sum of the weights times their numbers, by its rest."""
+    return sum([weight * number for weight, number in zip(weights, numbers)]) % many
+
+
+def all_meeting(many, factors, dues):
+    """The stretch of the x that meet the due of each factor, or multipliers that show there are none.
+
+    Those add the factors up to the rest 0, but the dues to another one.
+    """
+    greatest, weights = weights_of(many, factors)
+    # The weighed sum of all that x must meet: greatest * x leaves the rest of this one.
+    due = weighed_sum(many, weights, dues)
+    for at, factor in enumerate(factors):
+        times = factor // greatest
+        if (times * due - dues[at]) % many != 0:
+            shown = [times * weight for weight in weights]
+            shown[at] -= 1
+            return "none", [number % many for number in shown]
+    step = many // greatest
+    if due % greatest != 0:
+        return "none", [step * weight % many for weight in weights]
+    return "all", due // greatest, step
+
+
 def count_below(stretch, bound):
     """How many numbers from 0 to bound - 1 are in a stretch."""
     first, step = stretch

@@ -7,7 +7,7 @@ import re
 import unittest
 from pathlib import Path
 
-from dialdoubt import clocks, readings, rests
+from dialdoubt import clocks, counts, readings, rests, rivals, waits, whole
 
 FOLDER = Path(__file__).resolve().parent.parent / "dialdoubt"
 FILES = sorted(FOLDER.glob("*.py"))
@@ -45,6 +45,16 @@ INTERFACE = {
         "readings_of": "clock", "rows_of": "clock reading", "is_taken": "clock reading tick other",
         "coarse_step": "clock",
     },
+    rivals: {
+        "rivals_of": "clock tick", "tick_paper": "clock tick", "tick_paper_right": "clock tick told",
+        "read_picture": "clock picture",
+    },
+    counts: {
+        "clear_many": "clock", "clear_below": "clock bound", "clear_by": "clock number",
+        "doubtful_by": "clock number", "number_of": "clock tick", "next_clear": "clock tick",
+    },
+    whole: {"whole_paper": "clock", "whole_right": "clock told"},
+    waits: {"two_looks": "clock tick wait", "least_wait": "clock tick", "wait_right": "clock tick told"},
 }
 
 

@@ -1,38 +1,9 @@
-import itertools
 import math
 import unittest
 
 from dialdoubt.clocks import made_clock, mark_of, same_picture
 from dialdoubt.readings import coarse_step, is_taken, readings_of, rows_of
-from tests.helper import GREATEST, slow_same, small_clocks
-
-
-def slow_readings(clock):
-    """Goes through all orders of the hands."""
-    _, hands, _, mirror = clock
-    told = []
-    for swap in sorted(itertools.permutations(range(len(hands)))):
-        if all(hands[taken][2] == hands[hand][2] for hand, taken in enumerate(swap)):
-            told.append((swap, False))
-            if mirror:
-                told.append((swap, True))
-    return told
-
-
-def slow_rows(clock, reading):
-    """Point 10, word by word."""
-    many, hands, blank, _ = clock
-    swap, mirrored = reading
-    rows = []
-    for i in range(len(hands)):
-        a, b, start = hands[swap[i]][0], hands[i][0], hands[i][1]
-        if mirrored:
-            b, start = -b, -start
-        c = start - hands[swap[i]][1]
-        rows.append((a % many, b % many, c % many))
-    if blank:
-        return [tuple((x - y) % many for x, y in zip(row, rows[0])) for row in rows[1:]]
-    return rows
+from tests.helper import GREATEST, slow_readings, slow_rows, slow_same, small_clocks
 
 
 class Readings(unittest.TestCase):

@@ -2,7 +2,7 @@ import math
 import random
 import unittest
 
-from dialdoubt.rests import count_below, joined_of, meeting_of, weights_of
+from dialdoubt.rests import all_meeting, count_below, joined_of, meeting_of, weights_of
 from tests.helper import GREATEST
 
 
@@ -61,6 +61,49 @@ class Meeting(unittest.TestCase):
         self.assertTrue(words.count("all") > 50 and words.count("none") > 50)
         self.assert_meeting(GREATEST, -GREATEST, GREATEST)
         self.assert_meeting(GREATEST, GREATEST - 1, -GREATEST + 1)
+
+
+class AllMeeting(unittest.TestCase):
+    def assert_met(self, many, factors, dues):
+        told = all_meeting(many, factors, dues)
+        if told[0] == "none":
+            self.assertEqual(len(told[1]), len(factors))
+            self.assertEqual(sum(m * factor for m, factor in zip(told[1], factors)) % many, 0)
+            self.assertNotEqual(sum(m * due for m, due in zip(told[1], dues)) % many, 0)
+        else:
+            word, first, step = told
+            self.assertTrue(word == "all" and 0 <= first < step and many % step == 0)
+            self.assertEqual(step, many // math.gcd(many, *factors))
+            self.assertTrue(all((factor * first - due) % many == 0 for factor, due in zip(factors, dues)))
+        return told
+
+    def test_small_dials_against_all_numbers(self):
+        draw = random.Random(18)
+        words = []
+        for _ in range(2000):
+            many = draw.randint(2, 24)
+            factors = [draw.randrange(many) * draw.choice((1, 2, 3)) % many for _ in range(draw.randint(1, 4))]
+            x = draw.randrange(many)
+            dues = [factor * x + draw.choice((0, 0, 0, 0, many, -many, many // 2, 1)) for factor in factors]
+            told = self.assert_met(many, factors, dues)
+            met = [x for x in range(many) if all((f * x - due) % many == 0 for f, due in zip(factors, dues))]
+            self.assertEqual(met, list(range(told[1], many, told[2])) if told[0] == "all" else [])
+            words.append(told[0])
+        self.assertTrue(words.count("all") > 300 and words.count("none") > 300)
+
+    def test_nothing_to_meet(self):
+        self.assertEqual(all_meeting(12, [], []), ("all", 0, 1))
+
+    def test_great_dials(self):
+        draw = random.Random(19)
+        words = []
+        for _ in range(200):
+            share = draw.choice((1, 2, 6, 10 ** 20))
+            factors = [share * draw.randrange(GREATEST // share) for _ in range(draw.randint(1, 5))]
+            x = draw.randrange(GREATEST)
+            dues = [factor * x + draw.choice((0, 0, 0, GREATEST // 2, share)) for factor in factors]
+            words.append(self.assert_met(GREATEST, factors, dues)[0])
+        self.assertTrue(words.count("all") > 30 and words.count("none") > 30)
 
 
 class Joined(unittest.TestCase):
