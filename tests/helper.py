@@ -3,9 +3,11 @@
 import itertools
 import math
 import random
+import string
 
 from dialdoubt.clocks import made_clock
 from dialdoubt.errors import TooAlike
+from dialdoubt.whole import whole_paper
 
 GREATEST = 10 ** 60
 
@@ -185,6 +187,111 @@ def slow_papers_right(clock, papers, shows):
         if not shows(word, *[sum(m * row[k] for m, row in zip(multipliers, rows)) % clock[0] for k in range(3)]):
             return False
     return True
+
+
+def slow_whole_right(clock, told):
+    """Point 15, word by word."""
+    if told[0] == "rival":
+        return slow_doubt(clock, told[1], told[2], told[3])
+
+    def shows(word, a, b, c):
+        return (word == "never" and a == 0 and b == 0 and c != 0) or (word == "one" and (a, b, c) == (1, 1, 0))
+
+    return slow_papers_right(clock, told[1], shows)
+
+
+def slow_clear(clock):
+    """Whether no tick has a rival, by going through all of them."""
+    return not any(slow_rivals(clock))
+
+
+def shown_clear(clock):
+    """The same of great clocks: what whole_paper tells is held against the document, so it can't be wrong."""
+    told = whole_paper(clock)
+    assert slow_whole_right(clock, told), (clock, told)
+    return told[0] == "clear"
+
+
+def slow_kept(clock, some):
+    many, hands, blank, mirror = clock
+    return many, tuple(hands[hand] for hand in some), blank, mirror
+
+
+def slow_painted(clock, some):
+    """Point 7, word by word."""
+    many, hands, blank, mirror = clock
+    old = [look for _, _, look in hands]
+    new = {}
+    for hand in some:
+        new[hand] = min(letter for letter in string.ascii_lowercase if letter not in old and letter not in new.values())
+    painted = tuple((gear, start, new.get(hand, look)) for hand, (gear, start, look) in enumerate(hands))
+    return many, painted, blank, mirror
+
+
+def choices(clock, sizes):
+    """The rising tuples of as many hands as the sizes tell, in their order."""
+    return [some for size in sizes for some in itertools.combinations(range(len(clock[1])), size)]
+
+
+def slow_doubts_right(clocks, doubts):
+    """Whether there is a right doubt for each clock and no more."""
+    return len(clocks) == len(doubts) and all(slow_doubt(clock, *doubt) for clock, doubt in zip(clocks, doubts))
+
+
+def all_doubts(clock):
+    """All doubts of a small clock."""
+    return [
+        (tick, other, reading)
+        for reading in slow_readings(clock)
+        for tick in range(clock[0])
+        for other in range(clock[0])
+        if slow_doubt(clock, tick, other, reading)
+    ]
+
+
+def other_doubts(draw, clocks):
+    """A right doubt, drawn, for each of some small clocks, with ticks of any size and sign."""
+    told = []
+    for clock in clocks:
+        tick, other, reading = draw.choice(all_doubts(clock))
+        many = clock[0]
+        size = draw.choice((1, 10 ** 50))
+        told.append((tick + many * draw.randint(-size, size), other + many * draw.randint(-size, size), reading))
+    return told
+
+
+def misfit_doubts(clocks, doubts):
+    """Doubts that are wrong of each clock: too few or too many, or of one tick, or by what is no reading."""
+    told = [doubts[:at] + doubts[at + 1:] for at in range(len(doubts))]
+    told.extend([doubts[:1] + doubts, doubts + doubts[-1:]] if doubts else [[(0, 1, ((0,), False))]])
+    for at, (clock, (tick, other, reading)) in enumerate(zip(clocks, doubts)):
+        many = clock[0]
+        swap, mirrored = reading
+        changes = [(tick, tick + far * many, reading) for far in (0, 1, -1, 10 ** 50)]
+        head = swap[:-1]
+        for other_swap in (head, head + (-1,), head + (10 ** 60,), swap + swap[-1:], swap + (len(swap),)):
+            changes.append((tick, other, (other_swap, mirrored)))
+        if not clock[3]:
+            changes.append((tick, other, (swap, True)))
+        told.extend(doubts[:at] + [change] + doubts[at + 1:] for change in changes)
+    return told
+
+
+def changed_doubts(draw, clocks, doubts):
+    """Doubts with one of them changed, or two exchanged: most of them are wrong."""
+    told = [doubts[::-1]]
+    for at in range(1, len(doubts)):
+        told.append(doubts[:at - 1] + [doubts[at], doubts[at - 1]] + doubts[at + 1:])
+    for at, (clock, (tick, other, (swap, mirrored))) in enumerate(zip(clocks, doubts)):
+        order = list(swap)
+        draw.shuffle(order)
+        for change in (
+            (tick + 1, other, (swap, mirrored)), (tick, other + 1, (swap, mirrored)), (other, tick, (swap, mirrored)),
+            (tick, other, (swap, not mirrored)), (tick, other, (tuple(order), mirrored)),
+            (tick - clock[0], other + 3 * clock[0], (swap, mirrored)),
+        ):
+            told.append(doubts[:at] + [change] + doubts[at + 1:])
+    return told
 
 
 def slow_picture(clock, tick):

@@ -7,7 +7,8 @@ import re
 import unittest
 from pathlib import Path
 
-from dialdoubt import clocks, counts, readings, rests, rivals, waits, whole
+from dialdoubt import clocks, counts, keeping, other, readings, rests, rivals, texts, waits, whole
+from dialdoubt.desk import Desk
 
 FOLDER = Path(__file__).resolve().parent.parent / "dialdoubt"
 FILES = sorted(FOLDER.glob("*.py"))
@@ -55,11 +56,44 @@ INTERFACE = {
     },
     whole: {"whole_paper": "clock", "whole_right": "clock told"},
     waits: {"two_looks": "clock tick wait", "least_wait": "clock tick", "wait_right": "clock tick told"},
+    keeping: {
+        "fewest_kept": "clock", "fewest_painted": "clock", "kept_right": "clock told", "painted_right": "clock told",
+    },
+    other: {
+        "other_gear": "clock hand tries", "other_start": "clock hand tries",
+        "other_right": "clock kind hand tries told",
+    },
+    texts: {"clock_text": "clock", "read_clock": "text"},
 }
+# How a list or dict at module level may be used: read, but never passed on.
+READ_METHODS = ("get", "items", "keys", "values", "index", "count")
+READ_CALLS = ("len", "sorted", "list", "tuple", "dict", "enumerate", "zip")
 
 
 def nodes_of(file):
     return list(ast.walk(ast.parse(file.read_text())))
+
+
+def module_tables(tree):
+    """The names of lists and dicts at module level."""
+    return [
+        target.id
+        for node in tree.body if isinstance(node, ast.Assign) and isinstance(node.value, (ast.List, ast.Dict))
+        for target in node.targets
+    ]
+
+
+def is_read(parent, name):
+    """Whether a name is just read in the node around it, as rule L15 lets a table be read."""
+    if isinstance(parent, ast.Subscript):
+        return parent.value is name and isinstance(parent.ctx, ast.Load)
+    if isinstance(parent, ast.Attribute):
+        return parent.attr in READ_METHODS
+    if isinstance(parent, (ast.For, ast.comprehension)):
+        return parent.iter is name
+    if isinstance(parent, ast.Call):
+        return isinstance(parent.func, ast.Name) and parent.func.id in READ_CALLS
+    return isinstance(parent, ast.Compare)
 
 
 def bound_names(node):
@@ -73,6 +107,13 @@ def bound_names(node):
     if isinstance(node, ast.Attribute):
         return [node.attr]
     return []
+
+
+def top_names(node):
+    """The names that a statement at module level gives a meaning to, but for imports."""
+    if isinstance(node, ast.Assign):
+        return [target.id for target in node.targets]
+    return [node.name] if isinstance(node, (ast.FunctionDef, ast.ClassDef)) else []
 
 
 class Form(unittest.TestCase):
@@ -131,11 +172,40 @@ class Form(unittest.TestCase):
                 if isinstance(node, ast.Name):
                     self.assertNotIn(node.id, others, (file, node.lineno))
 
+    def test_tables_are_only_read(self):
+        for file in FILES:
+            tree = ast.parse(file.read_text())
+            tables = module_tables(tree)
+            for parent in ast.walk(tree):
+                for node in ast.iter_child_nodes(parent):
+                    if isinstance(node, ast.Name) and node.id in tables and isinstance(node.ctx, ast.Load):
+                        self.assertTrue(is_read(parent, node), (file, node.lineno))
+
+    def test_names_are_imported_from_where_they_stand_and_mean_nothing_else(self):
+        for file in FILES:
+            nodes = nodes_of(file)
+            imports = [node for node in nodes if isinstance(node, ast.ImportFrom)]
+            names = [alias.name for node in imports for alias in node.names]
+            self.assertEqual(len(set(names)), len(names), file)
+            for node in imports:
+                body = ast.parse((FOLDER / (node.module.split(".")[1] + ".py")).read_text()).body
+                there = [name for part in body for name in top_names(part)]
+                for alias in node.names:
+                    self.assertIsNone(alias.asname, file)
+                    self.assertIn(alias.name, there, file)
+            for node in nodes:
+                if not isinstance(node, ast.Attribute):
+                    self.assertEqual(set(bound_names(node)) & set(names), set(), (file, getattr(node, "lineno", 0)))
+            loaded = [node.id for node in nodes if isinstance(node, ast.Name)]
+            self.assertEqual([name for name in names if name not in loaded], [], file)
+
     def test_interface(self):
         for module, functions in INTERFACE.items():
             for name, parameters in functions.items():
                 told = inspect.signature(getattr(module, name)).parameters
                 self.assertEqual(list(told), parameters.split(), name)
+        for name, parameters in (("__init__", "self text"), ("say", "self row")):
+            self.assertEqual(list(inspect.signature(vars(Desk)[name]).parameters), parameters.split(), name)
 
 
 if __name__ == "__main__":

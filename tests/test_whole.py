@@ -8,20 +8,9 @@ from dialdoubt.counts import clear_many
 from dialdoubt.readings import readings_of, rows_of
 from dialdoubt.whole import whole_paper, whole_right
 from tests.helper import (
-    GREATEST, OTHER_SWAPS, changed_papers, coarse, fine, great_clocks, misfit_papers, slow_doubt, slow_papers_right,
-    slow_rivals, slow_step, small_clocks,
+    GREATEST, OTHER_SWAPS, changed_papers, coarse, fine, great_clocks, misfit_papers, slow_rivals, slow_step,
+    slow_whole_right, small_clocks,
 )
-
-
-def slow_whole_right(clock, told):
-    """Point 15, word by word."""
-    if told[0] == "rival":
-        return slow_doubt(clock, told[1], told[2], told[3])
-
-    def shows(word, a, b, c):
-        return (word == "never" and a == 0 and b == 0 and c != 0) or (word == "one" and (a, b, c) == (1, 1, 0))
-
-    return slow_papers_right(clock, told[1], shows)
 
 
 class Whole(unittest.TestCase):
